@@ -8,7 +8,7 @@ import (
 	"padlock/api"
 )
 
-// after: what stands behind the facts of the slots of with, and those.
+// after: the facts that the makes of with bring, and others that stand behind those.
 func after(facts string) string { return strings.TrimSpace(before + " " + facts) }
 
 // onKind: the fact, if a slot, a global or a field of that number of kinds is a Ref or an Ints, and else none.
